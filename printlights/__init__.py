@@ -1,0 +1,1 @@
+"""Lights and grades: curves, the nearest curve, and timing sheets."""
