@@ -1,1 +1,1 @@
-"""Lights and grades: curves, the nearest curve, and timing sheets."""
+"""Lights and grades: curves, the nearest curve, timing sheets, printing and the choice of lights."""

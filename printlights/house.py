@@ -1,8 +1,10 @@
 """The calls on one house, read one behind another, carried out and answered."""
 
+from printlights.choosing_calls import CHOOSING_CALLS
 from printlights.curve_calls import CURVE_CALLS
-from printlights.refusals import ANSWER_NOT_AS_TOLD, ANSWER_NOT_THERE, ANSWER_OUT_OF_RANGE, ANSWER_TOO_MANY
-from printlights.refusals import NotAsTold, NotThere, OutOfRange, TooMany
+from printlights.refusals import ANSWER_NOT_AS_TOLD, ANSWER_NOT_THERE, ANSWER_NOTHING_BEFORE, ANSWER_OUT_OF_RANGE
+from printlights.refusals import ANSWER_TOO_MANY, ANSWER_WRONG_NUMBER
+from printlights.refusals import NotAsTold, NotThere, NothingBefore, OutOfRange, TooMany, WrongNumber
 from printlights.sheet_calls import SHEET_CALLS
 from printlights.state import House
 
@@ -55,7 +57,9 @@ def answer_of_next(house, reader):
 def form_of(call):
     if call in CURVE_CALLS:
         return CURVE_CALLS[call]
-    return SHEET_CALLS[call]
+    if call in SHEET_CALLS:
+        return SHEET_CALLS[call]
+    return CHOOSING_CALLS[call]
 
 
 def answer_or_refusal(carry_out, house, numbers, rows):
@@ -63,9 +67,13 @@ def answer_or_refusal(carry_out, house, numbers, rows):
         return carry_out(house, numbers, rows)
     except OutOfRange:
         return [ANSWER_OUT_OF_RANGE]
+    except WrongNumber:
+        return [ANSWER_WRONG_NUMBER]
     except NotAsTold:
         return [ANSWER_NOT_AS_TOLD]
     except NotThere:
         return [ANSWER_NOT_THERE]
+    except NothingBefore:
+        return [ANSWER_NOTHING_BEFORE]
     except TooMany:
         return [ANSWER_TOO_MANY]

@@ -1,4 +1,9 @@
-"""Timing sheets: a text, as a list of bytes, is read into scenes, or the first thing wrong with it is told."""
+"""Timing sheets: a text, as a list of bytes, is read into scenes, or the first thing wrong with it is told.
+
+Scenes are shown as such a text again.
+"""
+
+from printlights.scene import MOST_SCENES, Scene
 
 LINE_END = 10
 BLANK = 32
@@ -6,7 +11,6 @@ REMARK = 35
 DIGIT_0 = 48
 DIGIT_9 = 57
 MOST_DIGITS = 4
-MOST_SCENES = 20
 
 FORM = ("scene", "N", "frames", "N", "lights", "N", "N", "N", "in", "N", "out", "N")
 PLACE_OF_IN = 8
@@ -19,15 +23,6 @@ WRONG_RANGE = 2
 WRONG_FADES = 3
 WRONG_ORDER = 4
 WRONG_COUNT = 5
-
-
-class Scene:
-    def __init__(self, number, frames, lights, fade_in, fade_out):
-        self.number = number
-        self.frames = frames
-        self.lights = lights
-        self.fade_in = fade_in
-        self.fade_out = fade_out
 
 
 class Reading:
@@ -138,3 +133,21 @@ def in_ranges(numbers):
         if number < ends[0] or number > ends[1]:
             return False
     return True
+
+
+def shown(scenes):
+    text = []
+    for scene in scenes:
+        text.extend(spelled(" ".join(words_for(scene))))
+        text.append(LINE_END)
+    return text
+
+
+def words_for(scene):
+    words = ["scene", str(scene.number), "frames", str(scene.frames), "lights"]
+    words.extend([str(light) for light in scene.lights])
+    if scene.fade_in > 0:
+        words.extend(["in", str(scene.fade_in)])
+    if scene.fade_out > 0:
+        words.extend(["out", str(scene.fade_out)])
+    return words

@@ -14,9 +14,9 @@ OWN_NAMES = set(
     " ArithmeticError OverflowError RuntimeError NotImplementedError StopIteration".split()
 )
 OWN_METHODS = set(
-    "append clear copy count endswith extend find get index insert isalnum isalpha isdigit islower isspace isupper items"
-    " join keys ljust lower lstrip partition pop remove replace reverse rfind rjust rpartition rsplit rstrip setdefault"
-    " split splitlines startswith strip update upper values zfill bit_length".split()
+    "append clear copy count endswith extend find get index insert isalnum isalpha isdigit islower isspace isupper"
+    " items join keys ljust lower lstrip partition pop remove replace reverse rfind rjust rpartition rsplit rstrip"
+    " setdefault split splitlines startswith strip update upper values zfill bit_length".split()
 )
 PYTHONS_VALUES = (str, int, list, dict, set, bytes, tuple)
 WORDS_OUT = re.compile(
@@ -28,6 +28,7 @@ NAMES_OUT = set(
     " copyright credits delattr dir eval exec exit gc getattr globals hasattr help id importlib license locals"
     " methodcaller os quit setattr super vars sys chr float bytes object print".split()
 )
+OWN_ERRORS = ("OutOfRange", "WrongNumber", "NotAsTold", "NotThere", "NothingBefore", "TooMany")
 STATEMENTS = (
     ast.Assign, ast.AugAssign, ast.If, ast.While, ast.For, ast.Return, ast.Break, ast.Continue, ast.Pass, ast.Raise,
     ast.Try, ast.Expr, ast.FunctionDef, ast.ClassDef, ast.ImportFrom,
@@ -130,7 +131,7 @@ class Forms(unittest.TestCase):
     def test_errors_are_the_programs_own(self):
         for place, node in nodes():
             if isinstance(node, ast.ExceptHandler):
-                self.assertIn(node.type.id, ("OutOfRange", "NotAsTold", "NotThere", "TooMany"), place)
+                self.assertIn(node.type.id, OWN_ERRORS, place)
 
 
 class Names(unittest.TestCase):

@@ -2,27 +2,16 @@
 
 import unittest
 
-from printlights.sheet import read_sheet
-from printlights.sheet_calls import call_sheet
-from printlights.state import House
-from tests.helper import FAR, SHEET, ask, last, sheet
+from tests.helper import COUNTS, FAR, SCENE, SHEET, SHOWN, UNDO, ask, codes, last, many, sheet, shown_after, told
 
 GOOD = "scene 1 frames 10 lights 25 25 25"
 
 
-def codes(text):
-    return list(text.encode("latin-1"))
-
-
 def scenes_of(text):
-    reading = read_sheet(codes(text))
+    got = ask([SHEET, codes(text)], *[[SCENE, place] for place in range(20)])[1:]
     return [
-        (scene.number, scene.frames, tuple(scene.lights), scene.fade_in, scene.fade_out) for scene in reading.scenes
+        (one[0], one[1], tuple(one[2:5]), one[5], one[6]) for one in got if one != [-4]
     ]
-
-
-def many(count):
-    return "".join(f"scene {k} frames 1 lights 0 0 0\n" for k in range(1, count + 1))
 
 
 class Right(unittest.TestCase):
@@ -87,7 +76,8 @@ class Wrong(unittest.TestCase):
             "scene 1 frame 10 lights 25 25 25", "scene 1 frames 10 light 25 25 25", "N N N N N N N N",
             "scene 01 frames 10 lights 25 25 25", "scene 00 frames 10 lights 25 25 25",
             "scene 1 frames 010 lights 25 25 25", "scene 1 frames 10 lights 00 25 25",
-            "scene 1 frames 10 lights 25 05 25", "scene 1 frames 10 lights 25 25 0000", GOOD + " in 01", GOOD + " out 00",
+            "scene 1 frames 10 lights 25 05 25", "scene 1 frames 10 lights 25 25 0000", GOOD + " in 01",
+            GOOD + " out 00",
             "scene 10000 frames 10 lights 25 25 25", "scene 1 frames 10000 lights 25 25 25", GOOD + " in 00001",
             "scene 1 frames 10 lights 25 25 12345", GOOD + " out 99999",
             "scene -1 frames 10 lights 25 25 25", "scene +1 frames 10 lights 25 25 25",
@@ -103,7 +93,8 @@ class Wrong(unittest.TestCase):
             "scene 0 frames 10 lights 25 25 25", "scene 1000 frames 10 lights 25 25 25",
             "scene 9999 frames 10 lights 25 25 25", "scene 1 frames 0 lights 25 25 25",
             "scene 1 frames 5001 lights 25 25 25", "scene 1 frames 10 lights 51 25 25",
-            "scene 1 frames 10 lights 25 51 25", "scene 1 frames 10 lights 25 25 51", "scene 1 frames 10 lights 25 25 9999",
+            "scene 1 frames 10 lights 25 51 25", "scene 1 frames 10 lights 25 25 51",
+            "scene 1 frames 10 lights 25 25 9999",
             "scene 1 frames 5000 lights 25 25 25 in 5001", "scene 1 frames 5000 lights 25 25 25 out 5001",
         ):
             self.assertEqual(sheet(text), [1, 1, 2], text)
@@ -176,31 +167,21 @@ class Bytes(unittest.TestCase):
 
 class Changes(unittest.TestCase):
     def test_the_sheet_is_kept(self):
-        house = House()
-        self.assertEqual(house.scenes, [])
-        self.assertEqual(call_sheet(house, [], [codes(GOOD)]), [0, 1])
-        self.assertEqual([scene.number for scene in house.scenes], [1])
-        self.assertEqual(call_sheet(house, [], [codes(many(3))]), [0, 3])
-        self.assertEqual([scene.number for scene in house.scenes], [1, 2, 3])
+        self.assertEqual(shown_after([SHEET, codes(GOOD)]), GOOD + "\n")
+        self.assertEqual(shown_after([SHEET, codes(GOOD)], [SHEET, codes(many(3))]), many(3))
+        self.assertEqual(shown_after([SHEET, codes(many(3))], [SHEET, []]), "")
 
     def test_a_wrong_text_changes_nothing(self):
-        house = House()
-        call_sheet(house, [], [codes(many(2))])
-        kept = house.scenes
-        self.assertEqual(call_sheet(house, [], [codes(GOOD + "\nx")]), [1, 2, 1])
-        self.assertEqual([scene.number for scene in house.scenes], [1, 2])
-        self.assertIs(house.scenes, kept)
-        self.assertEqual(len(house.sheets_before), 1)
+        got = ask([SHEET, codes(many(2))], [SHEET, codes(GOOD + "\nx")], [SHOWN], [COUNTS])
+        self.assertEqual(got[1], [1, 2, 1])
+        self.assertEqual(told(got[2]), many(2))
+        self.assertEqual(got[3], [0, 2, 2, 1])
 
     def test_the_last_twenty_are_kept(self):
-        house = House()
-        for count in range(15):
-            call_sheet(house, [], [codes(many(count))])
-        self.assertEqual([len(scenes) for scenes in house.sheets_before], [0] + list(range(14)))
-        for count in range(15):
-            call_sheet(house, [], [codes(many(count))])
-        self.assertEqual(len(house.sheets_before), 20)
-        self.assertEqual([len(scenes) for scenes in house.sheets_before], [9, 10, 11, 12, 13, 14] + list(range(14)))
+        sheets = [many(count % 15) for count in range(30)]
+        got = ask(*[[SHEET, codes(text)] for text in sheets], *[[UNDO], [SHOWN]] * 20, [UNDO])[30:]
+        self.assertEqual([told(answer) for answer in got[1:40:2]], sheets[28:8:-1])
+        self.assertEqual(got[40], [-6])
 
     def test_one_text_behind_another(self):
         got = ask([SHEET, codes(many(20))], [SHEET, codes(many(20))], [SHEET, codes("x")], [SHEET, [256]], [SHEET, []])
